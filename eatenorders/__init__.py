@@ -1,0 +1,1 @@
+"""Eatenorders: poset games, and which orders are one in every company."""

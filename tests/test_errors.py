@@ -1,0 +1,98 @@
+"""[27]: the errors, and the names and arguments of what stands in the interface."""
+
+import importlib
+import inspect
+import unittest
+
+from eatenorders import errors
+
+BASES = {"NoPiece": LookupError, "NothingDone": LookupError, "BadText": ValueError, "Broken": ValueError,
+         "CanNot": ValueError, "TooMany": ValueError, "Unfit": ValueError}
+
+BRACKETS = {"NoPiece": ["piece"], "NothingDone": [], "BadText": ["line"], "Broken": ["number"],
+            "CanNot": [], "TooMany": [], "Unfit": []}
+
+INTERFACE = {
+    "signs": {"words": "text", "text_of": "words", "number_of": "word", "word_of": "number"},
+    "orders": {"is_order": "thing", "is_piece": "order thing", "by_pairs": "many pairs", "pairs_of": "order",
+               "is_under": "order piece other", "under": "order piece", "above": "order piece",
+               "beside_of": "order piece", "least_pieces": "order", "greatest_pieces": "order",
+               "part": "order pieces", "levels": "order", "height": "order", "knots": "order"},
+    "making": {"chain": "many", "loose": "many", "side_by_side": "order other", "stacked": "order other",
+               "turned": "order", "divisors": "number", "tree": "parents", "bar": "high wide", "layered": "sizes"},
+    "bites": {"is_left": "order thing", "is_play": "order thing", "bite_at": "order left piece",
+              "bitten": "order left piece", "after_bites": "order left", "left_behind": "order play",
+              "first_flaw": "order pieces", "lefts": "order", "how_many_lefts": "order", "left_number": "order left",
+              "left_at": "order number", "fewest_bites": "order left other",
+              "bites_between": "order left other number"},
+    "alike": {"is_numbering": "order thing", "renumbered": "order pieces", "how_many_numberings": "order",
+              "least_form": "order", "how_many_forms": "order", "are_alike": "order other",
+              "automorphisms": "order", "is_automorphism": "order thing"},
+    "worths": {"worth": "order", "set_of_worths": "order", "worth_left": "order left", "set_left": "order left",
+               "is_won": "order left", "bites_to": "order left number", "winning_bites": "order left",
+               "winning_bite": "order left", "is_winning_bite": "order left thing", "lost_lefts": "order",
+               "by_worth": "order"},
+    "sums": {"sum_worth": "orders", "sum_left": "orders lefts", "winning_spots": "orders lefts",
+             "winning_spot": "orders lefts", "is_winning_spot": "orders lefts thing",
+             "are_balanced": "orders others", "balance": "orders", "behind_spot": "orders lefts number piece",
+             "answer_spot": "orders lefts number piece", "is_answer_spot": "orders lefts number piece thing"},
+}
+
+
+class Errors(unittest.TestCase):
+
+    def test_each_is_a_direct_subclass_of_one_class(self):
+        for name, base in BASES.items():
+            own = getattr(errors, name)
+            self.assertEqual(own.__bases__, (base,), name)
+            self.assertEqual(own.__module__, "eatenorders.errors", name)
+
+    def test_each_keeps_what_its_constructor_takes(self):
+        for name, told in BRACKETS.items():
+            own = getattr(errors, name)
+            for worth in (7, (0, 2), None):
+                by_place = own(*[worth for _ in told])
+                by_name = own(**{attribute: worth for attribute in told})
+                for attribute in told:
+                    self.assertEqual(getattr(by_place, attribute), worth)
+                    self.assertEqual(getattr(by_name, attribute), worth)
+
+    def test_each_takes_just_what_stands_in_its_brackets(self):
+        for name, told in BRACKETS.items():
+            own = getattr(errors, name)
+            if told:
+                self.assertEqual(list(inspect.signature(own).parameters), told)
+                self.assertRaises(TypeError, own)
+                self.assertRaises(TypeError, own, 1, 2)
+
+    def test_each_can_be_raised_and_caught_by_its_own_name_alone(self):
+        for name, told in BRACKETS.items():
+            own = getattr(errors, name)
+            others = tuple(getattr(errors, other) for other in BRACKETS if other != name)
+            error = own(*[3 for _ in told])
+            self.assertIsInstance(error, own)
+            self.assertNotIsInstance(error, others)
+
+
+class Interface(unittest.TestCase):
+
+    def test_each_function_is_defined_in_its_file(self):
+        for name, told in INTERFACE.items():
+            module = importlib.import_module("eatenorders." + name)
+            for function in told:
+                self.assertTrue(inspect.isfunction(getattr(module, function)), function)
+                self.assertEqual(getattr(module, function).__module__, "eatenorders." + name)
+                self.assertEqual(getattr(module, function).__name__, function)
+
+    def test_each_function_has_the_arguments_of_the_document(self):
+        for name, told in INTERFACE.items():
+            module = importlib.import_module("eatenorders." + name)
+            for function, arguments in told.items():
+                own = inspect.signature(getattr(module, function)).parameters
+                self.assertEqual(list(own), arguments.split(), function)
+                self.assertEqual([one.default for one in own.values()], [inspect.Parameter.empty] * len(own))
+                self.assertEqual({one.kind for one in own.values()}, {inspect.Parameter.POSITIONAL_OR_KEYWORD})
+
+
+if __name__ == "__main__":
+    unittest.main()
