@@ -23,6 +23,26 @@ BAD_ORDERS = (
     (4, ((0, 1), (0, 2), (0, 3), (1, 2))), (6, ((0, 1), (1, 2), (2, 3), (2, 5), (3, 4), (4, 5))))
 
 
+def endless(*parts):
+    """A list of parts that has itself as its last one."""
+    own = list(parts)
+    own.append(own)
+    return own
+
+
+def deep(value, times):
+    """value in so many lists, one in another."""
+    for _ in range(times):
+        value = [value]
+    return value
+
+
+# Whatever is passed in must not be gone through to its end: there is none, or it is far down.
+NO_END = (endless(), endless(0), endless(2), endless(0, 1), [2, endless()], [2, [endless(0)]], [2, [[0, endless()]]],
+          (2, (endless(),)), [endless(), []], deep(0, 20000), [deep(0, 20000), []], [2, deep(0, 20000)],
+          [2, [deep(0, 20000)]], [2, [[0, deep(1, 20000)]]], [2, [[0, 1, deep(0, 20000)]]])
+
+
 def lists(value):
     """value with lists for tuples, at every depth."""
     return [lists(part) for part in value] if isinstance(value, tuple) else value
@@ -108,13 +128,6 @@ class Case(unittest.TestCase):
                 self.assertEqual(ended(lambda: eval(code, names)), shown)
             else:
                 self.assertEqual(repr(eval(code, names)), repr(eval(shown, {})))
-
-
-def deep(value, times):
-    """value in so many lists, one in another."""
-    for _ in range(times):
-        value = [value]
-    return value
 
 
 def deep_tuple(value, times):

@@ -10,7 +10,7 @@ from eatenorders.alike import is_numbering, least_form, renumbered
 from eatenorders.bites import how_many_lefts
 from eatenorders.worths import set_of_worths, worth
 from tests import plain
-from tests.checks import BAD_ORDERS, Case, lists, things
+from tests.checks import BAD_ORDERS, Case, endless, lists, things
 
 EXAMPLES = r"""
     >>> vee, claw, zig = (3, ((0, 1), (0, 2))), (4, ((0, 1), (0, 2), (0, 3))), (4, ((0, 2), (1, 2), (1, 3)))
@@ -113,8 +113,8 @@ class Numberings(Case):
             told = repr(thing) if isinstance(thing, tuple) else ""
             self.gives(is_numbering, ((2, ()), thing), told in ("(0, 1)", "(1, 0)"))
             self.gives(is_numbering, (EMPTY, thing), told == "()")
-        for bad in ((0, 1), (0, 1, 2, 3), (0, 1, 1), (0, 1, 3), (0, True, 2), (False, 1, 2), (-3, 1, 2), (0, 1, -1),
-                    (0, 1, "2"), (0, 1, (2,)), (0, 1, None), (0, 1, 2.0), (2, 1, 0), [0, 1, 2], "012", None, 3, {}):
+        for bad in ((0, 1), (0, 1, 2, 3), (0, 1, 1), (0, 1, 2, 2), (0, 0, 1, 2), (0, 1, 3), (0, True, 2), (False, 1, 2),
+                    (-3, 1, 2), (0, 1, -1), (0, 1, "2"), (0, 1, (2,)), (0, 1, None), (0, 1, 2.0), (2, 1, 0), [0, 1, 2], "012", None, 3, {}):
             self.gives(is_numbering, (VEE, bad), False)
 
     def test_chains_and_loose_pieces(self):
@@ -193,7 +193,11 @@ class Forms(Case):
         other = numbered_otherwise(plain.stacked(*THREES, plain.side_by_side(plain.chain(2), (1, ()))), 4)
         self.assertEqual((how_many_numberings(other), how_many_forms(other)), (81, 81))
         self.assertEqual(how_many_numberings(MORE_NUMBERINGS), 5049)
-        for order in (MORE_NUMBERINGS, (8, ()), (10, ()), plain.side_by_side(plain.chain(8), plain.chain(8))):
+        one_more = plain.side_by_side(plain.chain(70), (1, ()))
+        one_more = (142, tuple(sorted(one_more[1] + tuple((low + 71, high + 71) for low, high in one_more[1])
+                                      + tuple((low, high) for low in (69, 70) for high in (71, 141)))))
+        self.assertEqual(how_many_numberings(one_more), 5041)
+        for order in (one_more, MORE_NUMBERINGS, (8, ()), (10, ()), plain.side_by_side(plain.chain(8), plain.chain(8))):
             self.refuses(least_form, (order,), "TooMany()")
             self.refuses(how_many_forms, (order,), "TooMany()")
             self.refuses(are_alike, (order, order), "TooMany()")
@@ -235,7 +239,7 @@ class Automorphisms(Case):
             told = repr(thing) if isinstance(thing, tuple) else ""
             self.gives(is_automorphism, ((2, ()), thing), told in ("(0, 1)", "(1, 0)"))
             self.gives(is_automorphism, (EMPTY, thing), told == "()")
-        for bad in ((0, 1), (0, 1, 2, 3), (0, 1, 1), (0, 2, 2), (0, 2, 3), (0, 2, True), (False, 2, 1), (0, -1, -2),
+        for bad in ((0, 1), (0, 1, 2, 3), (0, 1, 1), (0, 1, 2, 2), (0, 2, 1, 1), (0, 2, 2), (0, 2, 3), (0, 2, True), (False, 2, 1), (0, -1, -2),
                     (0, 2, "1"), (0, 2, (1,)), (0, 2, None), (0, 2, 1.0), (1, 0, 2), [0, 2, 1], "021", None, 3, {}):
             self.gives(is_automorphism, (VEE, bad), False)
         self.gives(is_automorphism, (STREWN, SIXTY[::-1]), True)
@@ -297,6 +301,7 @@ class Refused(Case):
 
     def test_what_is_no_numbering(self):
         for bad in (None, "", "012", 0, 3, True, {}, {0, 1, 2}, 1.5, (), (0, 1), (0, 1, 2, 3), (0, 1, 1), (0, 1, 3),
+                    (0, 1, 2, 2), (0, 0, 1, 2), endless(0), endless(0, 1, 2),
                     (-3, 1, 2), (0, True, 2), (False, 1, 2), (0, 1, "2"), (0, 1, None), (0, 1, (2,)), (1, 0, 2), (2, 1, 0),
                     (0, 1, 2.0)):
             self.unfit(renumbered, VEE, bad)

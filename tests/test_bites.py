@@ -7,7 +7,7 @@ from eatenorders import bites
 from eatenorders.bites import after_bites, bite_at, bites_between, bitten, fewest_bites, first_flaw, how_many_lefts
 from eatenorders.bites import is_left, is_play, left_at, left_behind, left_number, lefts
 from tests import plain
-from tests.checks import BAD_ORDERS, NO_NUMBERS, Case, ended, lists, things
+from tests.checks import BAD_ORDERS, NO_END, NO_NUMBERS, Case, ended, lists, things
 
 EXAMPLES = r"""
     >>> vee, claw = (3, ((0, 1), (0, 2))), (4, ((0, 1), (0, 2), (0, 3)))
@@ -254,6 +254,11 @@ class Plays(Case):
             self.unfit(left_behind, VEE, bad)
         for bad in ((0, 0), (0, 1), (2, 2), (1, 0, 2)):
             self.unfit(left_behind, VEE, bad)
+        for bad in NO_END:
+            self.unfit(first_flaw, VEE, bad)
+            self.unfit(left_behind, VEE, bad)
+            self.assertIs(is_play(VEE, bad), False)
+            self.assertIs(is_left(VEE, bad), False)
         self.unfit(left_behind, EMPTY, (0,))
         self.unfit(first_flaw, EMPTY, (0,))
 
@@ -321,7 +326,7 @@ class Refused(Case):
             self.unfit(bites_between, bad, (), (0,), 0)
 
     def test_what_is_no_left(self):
-        for bad in BAD_LEFTS:
+        for bad in BAD_LEFTS + NO_END:
             for own in (bad, lists(bad)):
                 self.unfit(after_bites, VEE, own)
                 self.unfit(left_number, VEE, own)
@@ -334,7 +339,7 @@ class Refused(Case):
                 self.unfit(bites_between, VEE, own, own, 99)
 
     def test_what_is_no_number(self):
-        for bad in NO_NUMBERS:
+        for bad in NO_NUMBERS + NO_END:
             self.unfit(bite_at, VEE, SOLID, bad)
             self.unfit(bitten, VEE, SOLID, bad)
             self.unfit(bitten, VEE, (), bad)

@@ -7,7 +7,7 @@ from eatenorders import making, orders
 from eatenorders.making import bar, chain, divisors, layered, loose, side_by_side, stacked, tree, turned
 from eatenorders.orders import height, is_order, pairs_of, under
 from tests import plain
-from tests.checks import BAD_ORDERS, NO_NUMBERS, Case, lists
+from tests.checks import BAD_ORDERS, NO_END, NO_NUMBERS, Case, lists
 
 EXAMPLES = r"""
     >>> chain(3), loose(2), chain(0), side_by_side(chain(2), fork), side_by_side(loose(1), chain(2))
@@ -139,6 +139,19 @@ class TwoOrders(Case):
                 self.unfit(function, FORK, bad)
                 self.unfit(function, bad, bad)
                 self.unfit(function, lists(FORK), lists(bad))
+
+
+class WithoutAnEnd(Case):
+
+    def test_values_without_an_end(self):
+        for bad in NO_END:
+            for function in (chain, loose, turned, divisors, tree, layered):
+                self.unfit(function, bad)
+            for function in (side_by_side, stacked):
+                self.unfit(function, bad, FORK)
+                self.unfit(function, FORK, bad)
+            self.unfit(bar, bad, 1)
+            self.unfit(bar, 1, bad)
 
 
 class Turned(Case):

@@ -7,7 +7,7 @@ from eatenorders import orders
 from eatenorders.orders import above, beside_of, by_pairs, greatest_pieces, height, is_order, is_piece, is_under
 from eatenorders.orders import knots, least_pieces, levels, pairs_of, part, under
 from tests import plain
-from tests.checks import BAD_ORDERS, NO_NUMBERS, Case, ended, lists, things
+from tests.checks import BAD_ORDERS, NO_END, NO_NUMBERS, Case, ended, lists, things
 
 EXAMPLES = r"""
     >>> fork, enn, late = (3, ((0, 1), (0, 2))), (4, ((0, 2), (1, 2), (1, 3))), (4, ((0, 1), (0, 2), (1, 3)))
@@ -371,6 +371,22 @@ class Refused(Case):
             self.unfit(part, FORK, bad)
             self.unfit(part, lists(FORK), lists(bad))
         self.unfit(part, EMPTY, (0,))
+
+    def test_values_without_an_end(self):
+        for bad in NO_END:
+            for function in BY_ORDER:
+                self.unfit(function, bad)
+            for function in BY_PIECE:
+                self.unfit(function, bad, 0)
+                self.unfit(function, FORK, bad)
+            self.unfit(is_under, bad, 0, 1)
+            self.unfit(is_under, FORK, bad, bad)
+            self.unfit(by_pairs, bad, bad)
+            self.unfit(by_pairs, 3, bad)
+            self.unfit(part, bad, ())
+            self.unfit(part, FORK, bad)
+            self.assertIs(is_order(bad), False)
+            self.assertIs(is_piece(FORK, bad), False)
 
     def test_a_call_that_is_refused_changes_nothing(self):
         own = [3, [[0, 1], [0, 2]]]

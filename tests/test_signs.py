@@ -5,7 +5,7 @@ import unittest
 
 from eatenorders import signs
 from eatenorders.signs import number_of, text_of, word_of, words
-from tests.checks import Case, ended
+from tests.checks import NO_END, Case, ended
 
 EXAMPLES = r"""
     >>> words("pieces -1 0 # a remark\n2 07-")
@@ -136,6 +136,10 @@ class Texts(Case):
                     ((None, 0),), ((1, 0),), ((("a",), 0),), (("a", True),), (("a", None),), (("a", "0"),), (("a", -1),),
                     (("a", 0.0),), (("a", 1), ("b", 0)), (("a", 0), ("b", 2), ("c", 1)), (("a", 0), "b0")):
             self.unfit(text_of, bad)
+        for bad in NO_END:
+            self.unfit(text_of, bad)
+            self.unfit(text_of, [bad])
+            self.unfit(text_of, [["a", 0], ["b", bad]])
 
 
 class Numbers(Case):

@@ -7,7 +7,7 @@ from eatenorders import sums, worths
 from eatenorders.sums import answer_spot, are_balanced, balance, behind_spot, is_answer_spot, is_winning_spot
 from eatenorders.sums import sum_left, sum_worth, winning_spot, winning_spots
 from tests import plain
-from tests.checks import BAD_ORDERS, NO_NUMBERS, Case, ended, things
+from tests.checks import BAD_ORDERS, NO_END, NO_NUMBERS, Case, ended, things
 
 SET_AHEAD = """
 vee, cap, stalk = (3, ((0, 1), (0, 2))), (3, ((0, 2), (1, 2))), (3, ((0, 1), (1, 2)))
@@ -243,7 +243,7 @@ class Refused(Case):
                 self.unfit(are_balanced, orders, (VEE,))
                 self.unfit(are_balanced, (VEE,), orders)
                 self.with_lefts(orders, ((),) * len(orders))
-        for bad in (None, "", "ab", 0, True, {}, {1}, 1.5, VEE, ONE, (None,), ((),), ("",)):
+        for bad in (None, "", "ab", 0, True, {}, {1}, 1.5, VEE, ONE, (None,), ((),), ("",), *NO_END):
             self.unfit(sum_worth, bad)
             self.unfit(balance, bad)
             self.unfit(are_balanced, bad, ())
@@ -255,7 +255,7 @@ class Refused(Case):
                     ((0,),), (1,), (1, 2), ((),)):
             self.with_lefts((VEE, CAP), (bad, (0,)))
             self.with_lefts((CAP, VEE), [(0,), bad])
-        for bad in (None, "", 0, True, {}, 1.5, (), ((),), ((), (), ()), (0, 1), "01", ((0,), None), {0: (), 1: ()}):
+        for bad in (None, "", 0, True, {}, 1.5, (), ((),), ((), (), ()), (0, 1), "01", ((0,), None), {0: (), 1: ()}, *NO_END):
             self.with_lefts((VEE, CAP), bad)
         for bad in (((),), (0,), None, "", {}):
             self.with_lefts((), bad)
@@ -279,8 +279,11 @@ class Refused(Case):
                     self.unfit(is_answer_spot, orders, ((0,), (0,)), *spot, (0, 0))
 
     def test_no_piece(self):
-        orders, lefts = (VEE, ZIG, EMPTY), ((0, 2), (1, 3), ())
-        for spot in itertools.product((-3, -1, 0, 1, 2, 3, 10 ** 6), (-4, -1, 0, 1, 2, 3, 4, 10 ** 6)):
+        for orders, lefts in (((VEE, ZIG, EMPTY), ((0, 2), (1, 3), ())), ((VEE, ZIG), ((0, 2), (0, 1, 2)))):
+            self.no_piece(orders, lefts)
+
+    def no_piece(self, orders, lefts):
+        for spot in itertools.product((-3, -2, -1, 0, 1, 2, 3, 10 ** 6), (-4, -1, 0, 1, 2, 3, 4, 10 ** 6)):
             if spot not in spots(lefts):
                 told = f"NoPiece(piece={spot})"
                 self.refuses(behind_spot, (orders, lefts, *spot), told)

@@ -6,7 +6,7 @@ from eatenorders import worths
 from eatenorders.worths import bites_to, by_worth, is_winning_bite, is_won, lost_lefts, set_left, set_of_worths
 from eatenorders.worths import winning_bite, winning_bites, worth, worth_left
 from tests import plain
-from tests.checks import BAD_ORDERS, NO_NUMBERS, Case, lists, things
+from tests.checks import BAD_ORDERS, NO_END, NO_NUMBERS, Case, lists, things
 
 EXAMPLES = r"""
     >>> vee, cap, stalk = (3, ((0, 1), (0, 2))), (3, ((0, 2), (1, 2))), (3, ((0, 1), (1, 2)))
@@ -220,7 +220,7 @@ class Refused(Case):
 
     def test_what_is_no_left(self):
         for bad in (None, "", "0", 0, True, {}, {0}, 1.5, (0, 0), (1, 0), (3,), (0, 3), (-1,), (True,), (0, True), (0, "1"),
-                    (0, None), ((0,),), (1,), (2,), (1, 2), ((),)):
+                    (0, None), ((0,),), (1,), (2,), (1, 2), ((),), *NO_END):
             for own in (bad, lists(bad)):
                 for function in BY_LEFT:
                     self.unfit(function, VEE, own)
@@ -229,7 +229,7 @@ class Refused(Case):
                 self.unfit(is_winning_bite, VEE, own, 0)
 
     def test_what_is_no_number(self):
-        for bad in NO_NUMBERS:
+        for bad in NO_NUMBERS + NO_END:
             self.unfit(bites_to, VEE, (0, 1, 2), bad)
             self.unfit(bites_to, EMPTY, (), bad)
 
