@@ -3,6 +3,7 @@
 from eatenorders.bites import few_lefts
 from eatenorders.errors import TooMany, Unfit
 from eatenorders.forms import is_each_once_below, tupled
+from eatenorders.masks import bits_of, how_many_in, links_of
 from eatenorders.orders import fit_order
 
 MOST_NUMBERINGS = 5040
@@ -141,23 +142,6 @@ def all_moves(order, most):
     return found
 
 
-def links_of(order):
-    """Return the pair of the lists of the masks of what lies above, under each piece."""
-    many, ties = order
-    above = [0] * many
-    under = [0] * many
-    for low, high in ties:
-        under[high] |= under[low] | (1 << low)
-    for low, high in list(reversed(ties)):
-        above[low] |= above[high] | (1 << high)
-    return above, under
-
-
-def bits_of(mask):
-    """Return the list of the pieces of which mask has the bit."""
-    return [piece for piece in range(mask.bit_length()) if (mask >> piece) & 1]
-
-
 def first_domains(many, links):
     """Return the list of the masks of the pieces that lie like each piece, as colours tell."""
     colours = settled_colours(many, links)
@@ -238,12 +222,6 @@ def one_move(links, domains, piece, image):
             chosen = most_narrowed(sizes, after, others)
             waiting.extend([(after, others, chosen, further) for further in bits_of(after[chosen])])
     return []
-
-
-def how_many_in(mask):
-    """Return how many bits mask has."""
-    figures = f"{mask:b}"
-    return figures.count("1")
 
 
 def most_narrowed(sizes, domains, pieces):

@@ -76,15 +76,8 @@ def greatest_pieces(order):
 
 def part(order, pieces):
     """Return the ORDER of pieces alone, numbered from 0 as they come."""
-    many, ties = fit_order(order)
-    own = tupled(pieces, 1)
-    if not is_set_below(many, own):
-        raise Unfit()
-    upper = ties_up(ties)
-    place = {piece: at for at, piece in enumerate(own)}
-    pairs = [(place[low], place[high])
-             for low in own for high in led_to(upper, low, many) if high in place]
-    return order_led_by(len(own), pairs)
+    own = fit_order(order)
+    return part_of(own, fit_pieces(own, pieces))
 
 
 def levels(order):
@@ -114,6 +107,14 @@ def fit_order(order):
     """Return order with tuples for lists; Unfit() if it is no ORDER."""
     own = tupled(order, 3)
     if not is_order(own):
+        raise Unfit()
+    return own
+
+
+def fit_pieces(order, pieces):
+    """Return pieces with tuples for lists; Unfit() if they are no set of pieces of order."""
+    own = tupled(pieces, 1)
+    if not is_set_below(order[0], own):
         raise Unfit()
     return own
 
@@ -220,6 +221,16 @@ def greatest_of(order):
     """Return the set of the greatest pieces of an ORDER that is known to be one."""
     upper = ties_up(order[1])
     return tuple([piece for piece in range(order[0]) if piece not in upper])
+
+
+def part_of(order, pieces):
+    """Return the ORDER of a set of pieces of an ORDER, both known to be such."""
+    many, ties = order
+    upper = ties_up(ties)
+    place = {piece: at for at, piece in enumerate(pieces)}
+    pairs = [(place[low], place[high])
+             for low in pieces for high in led_to(upper, low, many) if high in place]
+    return order_led_by(len(pieces), pairs)
 
 
 def levels_of(order):

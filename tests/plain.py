@@ -190,6 +190,157 @@ def crown(many):
     return 2 * many, tuple(sorted(ties))
 
 
+def lacking(numbers, place):
+    """The number at this place, from 0, among those that are none of numbers."""
+    return next(itertools.islice((own for own in itertools.count() if own not in numbers), place, None))
+
+
+def sets_below(many):
+    """All sets of numbers below many."""
+    return [own for size in range(many + 1) for own in itertools.combinations(range(many), size)]
+
+
+def lies(order, piece, other):
+    """How piece lies to other: "under", "above", "beside"; None if it is the same."""
+    if piece == other:
+        return None
+    if (piece, other) in pairs_of(order):
+        return "under"
+    return "above" if (other, piece) in pairs_of(order) else "beside"
+
+
+def is_module(order, pieces):
+    """Whether pieces are a MODULE: each piece outside lies in one way to all of them."""
+    outside = [other for other in range(order[0]) if other not in pieces]
+    return bool(pieces) and all(len({lies(order, other, piece) for piece in pieces}) == 1 for other in outside)
+
+
+@functools.lru_cache(maxsize=None)
+def modules(order):
+    """The list of the MODULES, ascending, out of all sets of pieces."""
+    return tuple(sorted(own for own in sets_below(order[0]) if is_module(order, own)))
+
+
+def cross(one, two):
+    """Whether two sets have a piece in common, and each one that the other has not."""
+    one, two = set(one), set(two)
+    return bool(one & two and one - two and two - one)
+
+
+@functools.lru_cache(maxsize=None)
+def strong(order):
+    """The list of the strong MODULES, ascending."""
+    return tuple(own for own in modules(order) if not any(cross(own, other) for other in modules(order)))
+
+
+def greatest_within(order, module):
+    """The greatest strong MODULES within a strong one, ascending."""
+    inner = [own for own in strong(order) if set(own) < set(module)]
+    return tuple(own for own in inner if not any(set(own) < set(other) for other in inner))
+
+
+def quotient(order, cut):
+    """The ORDER with a piece for each MODULE of cut."""
+    return order_of_pairs(len(cut), {(at, to) for at, one in enumerate(cut) for to, other in enumerate(cut)
+                                     if one != other and lies(order, one[0], other[0]) == "under"})
+
+
+def word_at(order, module):
+    """The word that stands at a strong MODULE of more than one piece."""
+    ways = {lies(order, one[0], other[0])
+            for one, other in itertools.combinations(greatest_within(order, module), 2)}
+    if ways == {"beside"}:
+        return "beside"
+    return "prime" if "beside" in ways else "stack"
+
+
+def tree(order, module):
+    """The TREE of a strong MODULE."""
+    if len(module) == 1:
+        return module[0]
+    cut = greatest_within(order, module)
+    word = word_at(order, module)
+    head = (word, quotient(order, cut)) if word == "prime" else (word,)
+    return head + tuple(tree(order, own) for own in cut)
+
+
+def ns(order):
+    """The list of the Ns, ascending."""
+    told = {"ac": "under", "bc": "under", "bd": "under", "ab": "beside", "ad": "beside", "cd": "beside"}
+    return [row for row in itertools.permutations(range(order[0]), 4)
+            if all(lies(order, row["abcd".index(one)], row["abcd".index(other)]) == way
+                   for (one, other), way in told.items())]
+
+
+@functools.lru_cache(maxsize=None)
+def form(order):
+    """The least ORDER that order can be numbered to be."""
+    return min(renumbered(order, row) for row in numberings(order))
+
+
+def turned(order):
+    """The ORDER upside down."""
+    many, ties = order
+    return many, tuple(sorted((many - 1 - high, many - 1 - low) for low, high in ties))
+
+
+def part(order, pieces):
+    """The ORDER of these pieces alone."""
+    return order_of_pairs(len(pieces), {(at, to) for at, low in enumerate(pieces) for to, high in enumerate(pieces)
+                                        if (low, high) in pairs_of(order)})
+
+
+def put_in(company, order):
+    """The ORDER in which order is put into company, from the words of [3]."""
+    own, hole = company
+    names = [("own", piece) for piece in range(hole)]
+    names += [("inner", piece) for piece in range(order[0])]
+    names += [("own", piece) for piece in range(hole + 1, own[0])]
+
+    def is_under(one, other):
+        if one[0] == other[0] == "inner":
+            return (one[1], other[1]) in pairs_of(order)
+        return tuple(hole if kind == "inner" else piece for kind, piece in (one, other)) in pairs_of(own)
+
+    return order_of_pairs(len(names), {(at, to) for at, one in enumerate(names) for to, other in enumerate(names)
+                                       if is_under(one, other)})
+
+
+def blown(order, inner):
+    """The ORDER with the ORDERS inner in the places of the pieces of order, numbered one behind another."""
+    begin = [sum(own[0] for own in inner[:at]) for at in range(order[0])]
+    pairs = {(begin[at] + low, begin[at] + high) for at, own in enumerate(inner) for low, high in pairs_of(own)}
+    pairs |= {(begin[at] + low, begin[to] + high) for at, to in pairs_of(order)
+              for low in range(inner[at][0]) for high in range(inner[to][0])}
+    return order_of_pairs(sum(own[0] for own in inner), pairs)
+
+
+def fence(many):
+    """A zigzag of so many pieces: the least ones first, each other one above one or two of them."""
+    half = (many + 1) // 2
+    ties = [(low, half + low) for low in range(many - half)] + [(low + 1, half + low) for low in range(half - 1)]
+    return many, tuple(sorted(ties))
+
+
+def worths_by_masks(order):
+    """The dict of the WORTHS of all LEFTS, by the sums of 2 ** piece; the list of what each BITE takes, so told."""
+    above = [sum(2 ** other for other in range(order[0]) if other == piece or (piece, other) in pairs_of(order))
+             for piece in range(order[0])]
+    worths, waiting = {0: 0}, [2 ** order[0] - 1]
+    while waiting:
+        mask = waiting[-1]
+        behind = [mask & ~above[piece] for piece in range(order[0]) if mask >> piece & 1]
+        unknown = [other for other in behind if other not in worths]
+        waiting += unknown
+        if not unknown:
+            numbers = {worths[other] for other in behind}
+            worths[mask] = next(number for number in itertools.count() if number not in numbers)
+            waiting.pop()
+    return worths, above
+
+
+ENN = (4, ((0, 2), (1, 2), (1, 3)))
+
 # 125 LEFTS of three CHAINS, 16 of the loose pieces: 2,000 together.
 JUST_FEW = side_by_side(chain(4), chain(4), chain(4), (4, ()))
 
