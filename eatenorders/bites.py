@@ -43,14 +43,7 @@ def after_bites(order, left):
 def left_behind(order, play):
     """Return the LEFT behind play."""
     own = fit_order(order)
-    bites = tupled(play, 1)
-    if not is_play_of(own, bites):
-        raise Unfit()
-    upper = ties_up(own[1])
-    gone = {}
-    for piece in bites:
-        bite_off(upper, own[0], piece, gone)
-    return tuple([piece for piece in range(own[0]) if piece not in gone])
+    return left_by_play(own, fit_play(own, play))
 
 
 def first_flaw(order, pieces):
@@ -120,6 +113,14 @@ def fit_left(order, left):
     return own
 
 
+def fit_play(order, play):
+    """Return play with tuples for lists; Unfit() if it is no PLAY of order."""
+    own = tupled(play, 1)
+    if not is_play_of(order, own):
+        raise Unfit()
+    return own
+
+
 def check_left_piece(left, piece):
     """NoPiece(piece) if piece, a number, is none of left."""
     if piece not in left:
@@ -150,6 +151,16 @@ def flaw_of(order, bites):
             return at
         bite_off(upper, many, piece, gone)
     return None
+
+
+def left_by_play(order, play):
+    """Return the LEFT behind a PLAY of an ORDER, both known to be such."""
+    many, ties = order
+    upper = ties_up(ties)
+    gone = {}
+    for piece in play:
+        bite_off(upper, many, piece, gone)
+    return tuple([piece for piece in range(many) if piece not in gone])
 
 
 def bite_off(upper, many, piece, gone):

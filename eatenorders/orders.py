@@ -150,7 +150,10 @@ def is_pair_below(many, thing):
 def some_follow(ties):
     """Tell whether one of ties follows from others."""
     upper = ties_up(ties)
-    return any([without_following(upper, upper[low]) != upper[low] for low in upper])
+    for low, highs in upper.items():
+        if without_following(upper, highs) != highs:
+            return True
+    return False
 
 
 def ties_up(ties):

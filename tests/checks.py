@@ -42,6 +42,10 @@ NO_END = (endless(), endless(0), endless(2), endless(0, 1), [2, endless()], [2, 
           (2, (endless(),)), [endless(), []], deep(0, 20000), [deep(0, 20000), []], [2, deep(0, 20000)],
           [2, [deep(0, 20000)]], [2, [[0, deep(1, 20000)]]], [2, [[0, 1, deep(0, 20000)]]])
 
+# No LEFTS of an N, plain.ENN.
+NO_LEFTS = (None, True, 0, "", "0", {}, {0}, 1.5, (0, 0), (1, 0), (4,), (0, 4), (-1,), (True,), (0, True), (None,), ("0",), (1.0,),
+            ((0,),), ((),), (2,), (0, 2), (3,), (0, 3), (1, 2), *NO_END)
+
 
 def lists(value):
     """value with lists for tuples, at every depth."""

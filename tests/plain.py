@@ -339,6 +339,30 @@ def worths_by_masks(order):
     return worths, above
 
 
+def come_to(order, left, named):
+    """The set of the LEFTS come to from left, against the dict of the pieces asked at LEFTS."""
+    found, waiting = set(), [left]
+    while waiting:
+        here = waiting.pop()
+        for come in {bitten(order, here, piece) for piece in here} - found:
+            found.add(come)
+            if come in named:
+                waiting.append(bitten(order, come, named[come]))
+    return found
+
+
+def are_answers(order, left, pairs):
+    """Whether REPLIES are ANSWERS of left."""
+    return come_to(order, left, dict(pairs)) == set(dict(pairs))
+
+
+def all_replies(order):
+    """All REPLIES of an order of few pieces."""
+    rows = [[None, *left] for left in lefts(order)]
+    return [tuple((left, piece) for left, piece in zip(lefts(order), row) if piece is not None)
+            for row in itertools.product(*rows)]
+
+
 ENN = (4, ((0, 2), (1, 2), (1, 3)))
 
 # 125 LEFTS of three CHAINS, 16 of the loose pieces: 2,000 together.

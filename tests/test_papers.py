@@ -8,7 +8,7 @@ from eatenorders import papers
 from eatenorders.bites import bitten
 from eatenorders.papers import answers, are_replies, is_answers, is_paper, least_answers, needless, paper_of, unanswered
 from tests import plain
-from tests.checks import BAD_ORDERS, NO_END, Case, ended, lists, things
+from tests.checks import BAD_ORDERS, NO_END, NO_LEFTS, Case, ended, lists, things
 
 EXAMPLES = r"""
     >>> two, vee, en = (2, ()), (3, ((0, 1), (0, 2))), (4, ((0, 2), (1, 2), (1, 3)))
@@ -36,40 +36,12 @@ ALL = (0, 1, 2, 3)
 # ANSWERS of EN as a whole.
 TOLD = (((0,), 0), ((0, 1, 2), 2), ((0, 1, 3), 3), ((1,), 1), ((1, 3), 1))
 
-# No LEFTS of EN.
-NO_LEFTS = (None, True, 0, "", "0", {}, {0}, 1.5, (0, 0), (1, 0), (4,), (0, 4), (-1,), (True,), (0, True), (None,), ("0",), (1.0,),
-            ((0,),), ((),), (2,), (0, 2), (3,), (0, 3), (1, 2), *NO_END)
-
 # No REPLIES of EN.
 NO_REPLIES = (None, True, 0, "", "0", {}, {0}, 1.5, (0,), ((),), (((0,),),), (((0,), 0, 0),), ((0,), 0), (((0,), 1),), ((0, 0),),
               (((), 0),), (((), None),), (((2,), 2),), (((0, 3), 0),), (((1, 0), 0),), (((0, 0), 0),), (((4,), 4),), (((0,), -1),),
               (((0,), False),), (((0,), True),), (((0,), None),), (((0,), "0"),), (((0,), 0.0),), (((0,), (0,)),), (((False,), 0),),
               (("0", 0),), (({0}, 0),), ((None, 0),), (((0,), 0), ((0,), 0)), (((0, 1), 0), ((0, 1), 1)), (((1,), 1), ((0,), 0)),
               TOLD[::-1], TOLD + TOLD, TOLD + ((),), TOLD + (None,), (0,) + TOLD, TOLD[1:] + TOLD[:1], {((0,), 0): 1}, *NO_END)
-
-
-def come_to(order, left, named):
-    """The set of the LEFTS come to from left, from its words."""
-    found, waiting = set(), [left]
-    while waiting:
-        here = waiting.pop()
-        for come in {plain.bitten(order, here, piece) for piece in here} - found:
-            found.add(come)
-            if come in named:
-                waiting.append(plain.bitten(order, come, named[come]))
-    return found
-
-
-def are_answers(order, left, pairs):
-    named = dict(pairs)
-    return come_to(order, left, named) == set(named)
-
-
-def all_replies(order):
-    """All REPLIES of an order of few pieces."""
-    rows = [[None] + list(left) for left in plain.lefts(order)]
-    return [tuple((left, piece) for left, piece in zip(plain.lefts(order), row) if piece is not None)
-            for row in itertools.product(*rows)]
 
 
 def lost(order, left):
@@ -82,7 +54,7 @@ def least_answers_told(order, left):
     while named != grown:
         named = grown
         grown = {come: min(piece for piece in come if lost(order, plain.bitten(order, come, piece)))
-                 for come in come_to(order, left, named)}
+                 for come in plain.come_to(order, left, named)}
     return tuple(sorted(named.items()))
 
 
@@ -102,9 +74,9 @@ class Answers(Case):
     def test_all_replies_of_small_orders(self):
         for order in plain.small_orders(3):
             for left in plain.lefts(order):
-                known = [pairs for pairs in all_replies(order) if are_answers(order, left, pairs)]
+                known = [pairs for pairs in plain.all_replies(order) if plain.are_answers(order, left, pairs)]
                 self.assertIs(bool(known), lost(order, left))
-                for pairs in all_replies(order):
+                for pairs in plain.all_replies(order):
                     self.assertIs(is_answers(order, left, pairs), pairs in known)
                 self.check(order, left)
 
@@ -112,18 +84,18 @@ class Answers(Case):
         """answers, least_answers and paper_of give what they should."""
         if lost(order, left):
             told = answers(order, left)
-            self.assertTrue(are_answers(order, left, told))
+            self.assertTrue(plain.are_answers(order, left, told))
             self.assertEqual(told, tuple(sorted(told)))
             self.assertEqual(least_answers(order, left), least_answers_told(order, left))
             self.assertIs(is_answers(order, left, told), True)
             self.assertEqual(paper_of(order, left)[0], None)
-            self.assertTrue(are_answers(order, left, paper_of(order, left)[1]))
+            self.assertTrue(plain.are_answers(order, left, paper_of(order, left)[1]))
         else:
             self.assertEqual(ended(answers, (order, left)), "raises CanNot()")
             self.assertEqual(ended(least_answers, (order, left)), "raises CanNot()")
             bite, pairs = paper_of(order, left)
             self.assertIn(bite, left)
-            self.assertTrue(are_answers(order, plain.bitten(order, left, bite), pairs))
+            self.assertTrue(plain.are_answers(order, plain.bitten(order, left, bite), pairs))
         self.assertIs(is_paper(order, left, paper_of(order, left)), True)
 
     def test_all_lefts_of_greater_orders(self):
@@ -136,7 +108,7 @@ class Answers(Case):
         for order in list(plain.all_orders(4)) + list(plain.all_orders(5))[::20]:
             for left in plain.lefts(order)[::3]:
                 for pairs in (some_replies(order, rng), some_replies(order, rng), ()):
-                    self.assertIs(is_answers(order, left, pairs), are_answers(order, left, pairs))
+                    self.assertIs(is_answers(order, left, pairs), plain.are_answers(order, left, pairs))
                 if lost(order, left):
                     self.check_changed(order, left, answers(order, left), rng)
 
@@ -145,12 +117,12 @@ class Answers(Case):
         for at, (own, piece) in enumerate(told):
             others = [(own, other) for other in own]
             for pairs in (told[:at] + told[at + 1:], told[:at] + (rng.choice(others),) + told[at + 1:]):
-                self.assertIs(is_answers(order, left, pairs), are_answers(order, left, pairs))
+                self.assertIs(is_answers(order, left, pairs), plain.are_answers(order, left, pairs))
         for own in plain.lefts(order)[1:]:
             if own not in dict(told):
                 pairs = tuple(sorted(told + ((own, own[0]),)))
-                self.assertIs(is_answers(order, left, pairs), are_answers(order, left, pairs))
-                self.assertFalse(are_answers(order, left, pairs))
+                self.assertIs(is_answers(order, left, pairs), plain.are_answers(order, left, pairs))
+                self.assertFalse(plain.are_answers(order, left, pairs))
 
     def test_in_every_guise(self):
         for order in FEW:
@@ -191,13 +163,13 @@ class Papers(Case):
     def test_none_or_a_piece_never_both(self):
         for order in plain.small_orders(3):
             for left in plain.lefts(order):
-                for pairs in all_replies(order):
+                for pairs in plain.all_replies(order):
                     self.check(order, left, pairs)
 
     def check(self, order, left, pairs):
-        self.assertIs(is_paper(order, left, (None, pairs)), are_answers(order, left, pairs))
+        self.assertIs(is_paper(order, left, (None, pairs)), plain.are_answers(order, left, pairs))
         for piece in range(-1, order[0] + 1):
-            told = piece in left and are_answers(order, plain.bitten(order, left, piece), pairs)
+            told = piece in left and plain.are_answers(order, plain.bitten(order, left, piece), pairs)
             self.assertIs(is_paper(order, left, (piece, pairs)), told)
             self.assertFalse(told and lost(order, left))
 
@@ -225,7 +197,7 @@ class Faults(Case):
     def test_unanswered_and_needless(self):
         rng = random.Random(23)
         for order in plain.small_orders(3):
-            for left, pairs in itertools.product(plain.lefts(order), all_replies(order)):
+            for left, pairs in itertools.product(plain.lefts(order), plain.all_replies(order)):
                 self.check(order, left, pairs)
         for order in list(plain.all_orders(4)) + list(plain.all_orders(5))[::12] + plain.some_orders()[:4]:
             for left in plain.lefts(order)[::-5]:
@@ -233,7 +205,7 @@ class Faults(Case):
 
     def check(self, order, left, pairs):
         named = dict(pairs)
-        come = come_to(order, left, named)
+        come = plain.come_to(order, left, named)
         self.assertEqual(unanswered(order, left, pairs), tuple(sorted(come - set(named))))
         self.assertEqual(needless(order, left, pairs), tuple(sorted(set(named) - come)))
 
@@ -241,7 +213,7 @@ class Faults(Case):
         for left in plain.lefts(EN):
             for pairs in ((), TOLD, TOLD[:2], TOLD[2:], (((0,), 0), (ALL, 3))):
                 named = dict(pairs)
-                come = come_to(EN, left, named)
+                come = plain.come_to(EN, left, named)
                 self.gives(unanswered, (EN, left, pairs), tuple(sorted(come - set(named))))
                 self.gives(needless, (EN, left, pairs), tuple(sorted(set(named) - come)))
                 self.gives(are_replies, (EN, pairs), True)
@@ -253,7 +225,7 @@ class Faults(Case):
         for bad in NO_REPLIES:
             self.assertIs(are_replies(EN, bad), False)
         for order in plain.small_orders(3):
-            for pairs in all_replies(order):
+            for pairs in plain.all_replies(order):
                 self.assertIs(are_replies(order, pairs), True)
                 self.assertIs(are_replies(order, pairs[::-1]), len(pairs) < 2)
                 self.assertIs(are_replies(order, list(pairs)), False)
