@@ -60,7 +60,34 @@ INTERFACE = {
     "papers": {"answers": "order left", "least_answers": "order left", "is_answers": "order left thing",
                "paper_of": "order left", "is_paper": "order left thing", "unanswered": "order left pairs",
                "needless": "order left pairs", "are_replies": "order thing"},
+    "replies": {"replies": "order play", "reply": "order play", "is_reply": "order play thing",
+                "how_many_plays": "order left", "plays_by_length": "order left", "plays_won": "order left",
+                "play_drawn": "order number", "play_number": "order play", "hurried": "order left",
+                "dragged": "order left", "hurrying": "order left", "dragging": "order left"},
+    "least": {"orders_of": "many", "all_sets": "many", "sets_counted": "many", "worths_counted": "many",
+              "with_set": "worths many", "least_with": "worths", "is_least_with": "worths thing"},
+    "mirrors": {"mirrors": "order", "is_mirror": "order thing", "stays": "order mirror", "moved_pairs": "order mirror",
+                "staying_order": "order mirror", "is_even": "order mirror left",
+                "mirror_reply": "order mirror left piece", "mirror_left": "order mirror left piece",
+                "worth_by_mirror": "order mirror", "fewest_stay": "order", "best_mirror": "order",
+                "is_best_mirror": "order thing", "top": "order", "bottom": "order", "worth_by_bottom": "order"},
+    "texts": {"is_sheet": "thing", "sheet_text": "sheet", "read_sheet": "text", "order_text": "order",
+              "read_order": "text", "picture": "order", "read_picture": "text"},
+    "lastloses": {"last_won": "order left", "last_bites": "order left", "last_lost_lefts": "order",
+                  "turned_lefts": "order", "last_answers": "order left", "is_last_answers": "order left thing",
+                  "last_paper": "order left", "is_last_paper": "order left thing", "without_least": "order"},
+    "changes": {"piece_more": "order pieces", "piece_less": "order piece", "can_more": "order",
+                "pair_more": "order low high", "pair_less": "order low high", "changed": "order changes",
+                "unlike_pairs": "order other", "changes_between": "order other",
+                "is_changes_between": "order other thing", "worths_less": "order", "idle_pieces": "order",
+                "idle_ties": "order"},
+    "judge": {"is_demand": "thing", "is_so": "demand", "paper_against": "demand", "is_paper_against": "demand thing",
+              "reason_for": "demand", "is_reason_for": "demand thing", "first_fallen": "demands"},
 }
+
+# The one class, with the arguments of its methods.
+DESK = {"__init__": "self order", "say": "self text", "order": "self", "play": "self", "left": "self", "undo": "self",
+        "redo": "self", "twin": "self", "__eq__": "self other"}
 
 
 class Errors(unittest.TestCase):
@@ -116,6 +143,14 @@ class Interface(unittest.TestCase):
                 self.assertEqual(list(own), arguments.split(), function)
                 self.assertEqual([one.default for one in own.values()], [inspect.Parameter.empty] * len(own))
                 self.assertEqual({one.kind for one in own.values()}, {inspect.Parameter.POSITIONAL_OR_KEYWORD})
+
+    def test_the_desk_is_defined_in_its_file_with_its_methods(self):
+        own = importlib.import_module("eatenorders.desk").Desk
+        self.assertTrue(inspect.isclass(own))
+        self.assertEqual((own.__module__, own.__name__), ("eatenorders.desk", "Desk"))
+        for name, arguments in DESK.items():
+            self.assertTrue(inspect.isfunction(vars(own)[name]), name)
+            self.assertEqual(list(inspect.signature(vars(own)[name]).parameters), arguments.split(), name)
 
 
 if __name__ == "__main__":

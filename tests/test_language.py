@@ -140,7 +140,8 @@ class Code(unittest.TestCase):
                 if isinstance(node, ast.Expr):
                     self.assertIs(node, tree.body[0])
                 if isinstance(node, ast.Assign):
-                    self.assertIsInstance(node.value, ast.Constant, name)
+                    plain = node.value.elts if isinstance(node.value, ast.Tuple) else [node.value]
+                    self.assertTrue(all(isinstance(one, ast.Constant) for one in plain), name)
 
     def test_methods_of_builtin_values(self):
         for name, tree in trees():
